@@ -4,18 +4,22 @@ Each call has a function (net, numbers, row) that gives back the numbers of its 
 what they are handed before they change anything, so that a refusal leaves all as it was.
 """
 
-from channelnet.gates import parts_fit
+from channelnet.asked import offered_at, offers_for, part_of
+from channelnet.gates import gate_part, parts_fit
 from channelnet.need import needed
+from channelnet.printing import text_of
 from channelnet.reading import read_net
-from channelnet.state import TICKS, Net, ends_of, way_to
-from channelnet.water import account_of, account_of_all, flow_at, leaving_at, told
+from channelnet.state import SOURCE, TICKS, Net, ends_of, if_held, way_to
+from channelnet.water import account_of, account_of_all, flow_at, leaving_at, most_leaving, spills_of_all, told
 
 NO_NET = -9
 OUT_OF_RANGE = -1
 TOO_MUCH_PARTED = -7
+CANNOT = -8
 TOO_MANY_SETTINGS = -6
 MOST_WATER = 1000000
 MOST_SETTINGS = 60
+MOST_CAP = 100000
 
 
 def is_reach(net, i):
@@ -28,6 +32,10 @@ def is_tick(tick):
 
 def is_water(number):
     return 0 <= number <= MOST_WATER
+
+
+def are_asks(net, row):
+    return len(row) == len(ends_of(net.reaches)) and all([is_water(number) for number in row])
 
 
 def answer_net(net, numbers, row):
@@ -102,14 +110,73 @@ def answer_need(net, numbers, row):
     return [0, 1] + water
 
 
+def answer_most(net, numbers, row):
+    if not is_reach(net, numbers[0]) or not is_tick(numbers[1]):
+        return [OUT_OF_RANGE]
+    return [0] + told([most_leaving(net, numbers[0], numbers[1])])
+
+
+def answer_wants(net, numbers, row):
+    if not are_asks(net, row):
+        return [OUT_OF_RANGE]
+    found = offers_for(net.reaches, row)
+    if found[1] is not None:
+        return [0, 0, found[1]]
+    return [0, 1] + offered_at(net.reaches, found[0], SOURCE)
+
+
+def answer_set_gates(net, numbers, row):
+    if not are_asks(net, row):
+        return [OUT_OF_RANGE]
+    found = offers_for(net.reaches, row)
+    if found[1] is not None:
+        return [CANNOT]
+    answer = [0]
+    for i in range(len(net.reaches)):
+        answer.extend(part_of(net.reaches, found[0], i))
+    return answer
+
+
+def answer_part(net, numbers, row):
+    if not is_reach(net, numbers[0]) or not is_tick(numbers[1]):
+        return [OUT_OF_RANGE]
+    return [0, gate_part(net.reaches, net.settings, numbers[0], numbers[1])]
+
+
+def answer_spills(net, numbers, row):
+    return [0] + told(spills_of_all(net))
+
+
+def answer_ifcap(net, numbers, row):
+    if not is_reach(net, numbers[0]) or not 1 <= numbers[1] <= MOST_CAP:
+        return [OUT_OF_RANGE]
+    return [0] + told(account_of_all(if_held(net, numbers[0], numbers[1])))
+
+
+def answer_ends(net, numbers, row):
+    ends = ends_of(net.reaches)
+    return [0, len(ends)] + ends
+
+
+def answer_print_text(net, numbers, row):
+    text = text_of(net.reaches)
+    return [0, len(text)] + text
+
+
+def answer_counts(net, numbers, row):
+    return [0, len(net.reaches), len(ends_of(net.reaches)), len(net.settings), sum(net.waters)]
+
+
 NET = 0
-# By the call's number: its function, how many whole numbers it has, whether a row stands behind them.
+# By the call's number: its function, and how many whole numbers it has; then the calls that have a row behind them.
 FUNCTIONS = (
     answer_net, answer_let, answer_gate, answer_flow, answer_comes,
-    answer_account, answer_accounts, answer_way, answer_need,
+    answer_account, answer_accounts, answer_way, answer_need, answer_most,
+    answer_wants, answer_set_gates, answer_part, answer_spills, answer_ifcap,
+    answer_ends, answer_print_text, answer_counts,
 )
-HOW_MANY_NUMBERS = (0, 1, 3, 2, 3, 1, 0, 1, 3)
-HAS_ROW = (True, True, False, False, False, False, False, False, False)
+HOW_MANY_NUMBERS = (0, 1, 3, 2, 3, 1, 0, 1, 3, 2, 0, 0, 2, 0, 2, 0, 0, 0)
+WITH_ROW = (0, 1, 10, 11)
 
 
 def answer_call(net, call, numbers, row):
@@ -129,7 +196,7 @@ def answers(calls):
         behind = at + 1 + HOW_MANY_NUMBERS[call]
         numbers = calls[at + 1:behind]
         row = []
-        if HAS_ROW[call]:
+        if call in WITH_ROW:
             row = calls[behind + 1:behind + 1 + calls[behind]]
             behind = behind + 1 + len(row)
         answer = answer_call(net, call, numbers, row)

@@ -39,6 +39,21 @@ class Net:
         self.settings = []
 
 
+def with_cap(reach, cap):
+    """A reach like this one that holds cap."""
+    numbers = [reach.delay, reach.loss, reach.soak, cap, reach.gate]
+    return Reach(reach.name, reach.begins, reach.above, reach.depth, numbers)
+
+
+def if_held(net, i, cap):
+    """A net like this one whose reach i holds cap; this one stays as it is."""
+    other = Net()
+    other.reaches = [with_cap(reach, cap) if k == i else reach for k, reach in enumerate(net.reaches)]
+    other.waters = list(net.waters)
+    other.settings = list(net.settings)
+    return other
+
+
 def way_to(reaches, i):
     """The reaches from the source down to reach i, that one too."""
     upward = []

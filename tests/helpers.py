@@ -46,6 +46,42 @@ def need(i, t, x):
     return [8, i, t, x]
 
 
+def most(i, t):
+    return [9, i, t]
+
+
+def wants(asks):
+    return [10] + row(asks)
+
+
+def set_gates(asks):
+    return [11] + row(asks)
+
+
+def part(i, t):
+    return [12, i, t]
+
+
+def spills():
+    return [13]
+
+
+def ifcap(i, c):
+    return [14, i, c]
+
+
+def ends():
+    return [15]
+
+
+def print_text():
+    return [16]
+
+
+def counts():
+    return [17]
+
+
 def line(name, where="source", delay=0, loss=0, soak=0, cap=100000, gate=100):
     return f"reach {name} from {where} delay {delay} loss {loss} soak {soak} cap {cap} gate {gate}\n"
 
@@ -72,6 +108,11 @@ def run(*calls):
     return parts
 
 
+def said(text):
+    """What print answers for a net of that very text."""
+    return [0, len(text)] + list(text.encode("ascii"))
+
+
 def last(*calls):
     """The answer to the last of the calls."""
     return run(*calls)[-1]
@@ -79,7 +120,7 @@ def last(*calls):
 
 def sight(reaches):
     """Calls that show what the net is, what is let in and how the gates are set, without changing it."""
-    calls = [accounts()]
+    calls = [accounts(), counts(), ends(), print_text()]
     for i in range(reaches):
         calls.append(way(i))
         calls.append(need(i, 0, 7))

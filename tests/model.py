@@ -40,6 +40,13 @@ def read(text):
     return reaches or len(lines) + 1
 
 
+def pairs(waters):
+    numbers = []
+    for water in waters:
+        numbers.extend([water.numerator, water.denominator])
+    return numbers
+
+
 class Model:
     def __init__(self):
         self.reaches = None
@@ -81,8 +88,14 @@ class Model:
             return [-6]
         return [0]
 
-    def simulate(self, let_in):
-        """By tick and reach what is offered, taken and leaving; and what arrived, was lost, spilled and ran off."""
+    def simulate(self, let_in, share=None):
+        """By tick and reach what is offered, taken and leaving; and what arrived, was lost, spilled and ran off.
+
+        share tells a gate's part of the whole, if it is not to be as the gates are set.
+        """
+        if share is None:
+            def share(i, tick):
+                return Fraction(self.part(i, tick), 100)
         many = len(self.reaches)
         offered = [[Fraction(0)] * many for _ in range(2 * BEHIND)]
         taken = [[Fraction(0)] * many for _ in range(2 * BEHIND)]
@@ -92,7 +105,7 @@ class Model:
         for tick in range(BEHIND):
             waters = {"source": Fraction(let_in[tick])}
             for i, reach in enumerate(self.reaches):
-                water = waters[reach["where"]] * Fraction(self.part(i, tick), 100)
+                water = waters[reach["where"]] * share(i, tick)
                 offered[tick][i] = water
                 taken[tick][i] = min(water, Fraction(reach["c"]))
                 totals[2] += water - taken[tick][i]
@@ -104,9 +117,9 @@ class Model:
                 if i in ends:
                     totals[0] += leaving[tick][i]
             for where, water in waters.items():
-                parts = [self.part(i, tick) for i, reach in enumerate(self.reaches) if reach["where"] == where]
+                parts = [share(i, tick) for i, reach in enumerate(self.reaches) if reach["where"] == where]
                 if parts:
-                    totals[3] += water * Fraction(100 - sum(parts), 100)
+                    totals[3] += water * (1 - sum(parts))
         return offered, taken, leaving, totals
 
     def alone(self, t, water):
@@ -116,3 +129,128 @@ class Model:
         """What leaves reach i in all of so much let in at t alone."""
         leaving = self.simulate(self.alone(t, water))[2]
         return sum(row[i] for row in leaving)
+
+    def spills(self):
+        offered, taken, leaving, totals = self.simulate(self.let_in)
+        return [sum(offered[tick][i] - taken[tick][i] for tick in range(BEHIND)) for i in range(len(self.reaches))]
+
+    def ifcap(self, i, c):
+        other = Model()
+        other.reaches = [dict(reach) for reach in self.reaches]
+        other.reaches[i]["c"] = c
+        other.told = self.told
+        return other.simulate(self.let_in)[3]
+
+    def below(self, where):
+        return [i for i, reach in enumerate(self.reaches) if reach["where"] == where]
+
+    def plan(self, asks):
+        """What is to be offered, reach by reach, and the reaches that can't, in the order of their telling."""
+        offers = {}
+        cannot = []
+        asked = dict(zip(self.ends(), asks))
+
+        def visit(i):
+            reach = self.reaches[i]
+            for k in self.below(reach["name"]):
+                visit(k)
+            out = Fraction(asked[i]) if i in asked else sum(offers[k] for k in self.below(reach["name"]))
+            offers[i] = out / Fraction(100 - reach["l"], 100) + reach["k"] if out else Fraction(0)
+            if offers[i] > reach["c"]:
+                cannot.append(i)
+
+        for i in self.below("source"):
+            visit(i)
+        return offers, cannot
+
+    def shares(self, offers):
+        """The gates' parts of the whole, reach by reach."""
+        shares = []
+        for i, reach in enumerate(self.reaches):
+            whole = sum(offers[k] for k in self.below(reach["where"]))
+            shares.append(offers[i] / whole if whole else Fraction(0))
+        return shares
+
+    def text(self):
+        return "".join(
+            "reach {name} from {where} delay {d} loss {l} soak {k} cap {c} gate {g}\n".format(**reach)
+            for reach in self.reaches
+        )
+
+    def needed(self, i, t, x):
+        """What has to be let in, or None."""
+        water = Fraction(x)
+        tick = t + sum(self.reaches[k]["d"] for k in self.reaches[i]["way"])
+        for k in reversed(self.reaches[i]["way"]):
+            reach = self.reaches[k]
+            tick -= reach["d"]
+            water = water / (1 - Fraction(reach["l"], 100)) + reach["k"]
+            if water > reach["c"] or self.part(k, tick) == 0:
+                return None
+            water = water / Fraction(self.part(k, tick), 100)
+        return water
+
+    def is_right(self, call):
+        """Whether the numbers and lists of a call, but of let and gate, are as told."""
+        many, number, rest = len(self.reaches), call[0], call[1:]
+        if number in (3, 4, 7, 8, 9, 12, 14) and not 0 <= rest[0] < many:
+            return False
+        if number in (3, 4, 8, 9, 12) and not 0 <= rest[1] <= 59 or number == 5 and not 0 <= rest[0] <= 59:
+            return False
+        if number in (10, 11):
+            return len(rest[0]) == len(self.ends()) and all(0 <= x <= 1000000 for x in rest[0])
+        greatest = {4: (1, 60 - rest[1]) if number == 4 else (), 8: (0, 1000000), 14: (1, 100000)}.get(number)
+        return not greatest or greatest[0] <= rest[-1] <= greatest[1]
+
+    def answer(self, call):
+        """The answer to a call: its number and what it is asked with, a text for net."""
+        number, rest = call[0], call[1:]
+        if number == 0:
+            return self.net(*rest)
+        if self.reaches is None:
+            return [-9]
+        if number == 1:
+            return self.let(*rest)
+        if number == 2:
+            return self.gate(*rest)
+        if not self.is_right(call):
+            return [-1]
+        if number == 11 and self.plan(rest[0])[1]:
+            return [-8]
+        return [0] + self.answer_right(number, *rest)
+
+    def answer_right(self, number, *rest):
+        if number in (3, 4):
+            offered, taken, leaving, totals = self.simulate(self.let_in)
+            i, t = rest[:2]
+            if number == 3:
+                return pairs([offered[t][i], taken[t][i], offered[t][i] - taken[t][i], leaving[t][i]])
+            return pairs([leaving[t + k][i] for k in range(rest[2])])
+        if number == 5:
+            return pairs(self.simulate(self.alone(rest[0], self.let_in[rest[0]]))[3])
+        if number == 6:
+            return pairs(self.simulate(self.let_in)[3])
+        if number == 7:
+            way = self.reaches[rest[0]]["way"]
+            return [sum(self.reaches[k]["d"] for k in way), len(way)] + way
+        if number == 8:
+            water = self.needed(*rest) if rest[2] else Fraction(0)
+            return [0] if water is None else [1] + pairs([water])
+        if number == 9:
+            return pairs([self.most_leaving(rest[0], rest[1], 10 ** 40)])
+        if number == 10:
+            offers, cannot = self.plan(rest[0])
+            return [0, cannot[0]] if cannot else [1] + pairs([sum(offers[i] for i in self.below("source"))])
+        if number == 11:
+            return pairs(self.shares(self.plan(rest[0])[0]))
+        if number == 12:
+            return [self.part(*rest)]
+        if number == 13:
+            return pairs(self.spills())
+        if number == 14:
+            return pairs(self.ifcap(*rest))
+        if number == 15:
+            return [len(self.ends())] + self.ends()
+        if number == 16:
+            return [len(self.text())] + [ord(sign) for sign in self.text()]
+        return [len(self.reaches), len(self.ends()), len(self.told), sum(self.let_in)]

@@ -94,6 +94,7 @@ class Form(unittest.TestCase):
                     self.assertLessEqual(len(node.generators[0].ifs), 1)
                 if isinstance(node, ast.Constant):
                     self.assertIn(type(node.value), (int, str, bool, type(None)))
+                    self.assertFalse(isinstance(node.value, str) and "%" in node.value, name)
                 if isinstance(node, ast.Compare) and any(isinstance(op, (ast.Is, ast.IsNot)) for op in node.ops):
                     self.assertIsInstance(node.comparators[0], ast.Constant)
 

@@ -4,17 +4,17 @@ import random
 import unittest
 from fractions import Fraction
 
-from helpers import account, accounts, comes, flow, gate, let, line, need, net, run, way
-from model import Model, read
+from helpers import (
+    account, accounts, comes, counts, ends, flow, gate, ifcap, let, line, most, need, net, part, print_text, run, said,
+    set_gates, spills, wants, way,
+)
+from model import Model, pairs, read
 
 LETTERS = "abcdefghijklmnopqrstuvwxyz"
 
 
 def told(waters):
-    numbers = [0]
-    for water in waters:
-        numbers.extend([water.numerator, water.denominator])
-    return numbers
+    return [0] + pairs(waters)
 
 
 def make_text(rng, many):
@@ -135,3 +135,136 @@ class Waters(unittest.TestCase):
                     self.assertEqual(x, model.most_leaving(i, t, least))
                     self.assertLess(model.most_leaving(i, t, least - Fraction(1, 10 ** 40)), x)
         self.assertTrue(min(seen.values()) > 10, seen)
+
+    def test_most_part_spills_ifcap(self):
+        rng = random.Random(31)
+        for _ in range(30):
+            model, calls = self.start(rng)
+            asked = [spills()]
+            expected = [told(model.spills())]
+            for _ in range(4):
+                i = rng.randrange(len(model.reaches))
+                t = rng.randint(0, 59)
+                asked.extend([most(i, t), part(i, t)])
+                expected.extend([told([model.most_leaving(i, t, 10 ** 40)]), [0, model.part(i, t)]])
+            for c in (1, rng.randint(1, 1000), 100000):
+                i = rng.randrange(len(model.reaches))
+                asked.append(ifcap(i, c))
+                expected.append(told(model.ifcap(i, c)))
+            self.assertEqual(expected, run(*calls, *asked)[len(calls):])
+
+    def test_ends_print_counts(self):
+        rng = random.Random(37)
+        for _ in range(60):
+            model, calls = self.start(rng)
+            heard = run(*calls, ends(), print_text(), counts())[len(calls):]
+            found = model.ends()
+            told_settings = len(model.told)
+            self.assertEqual([0, len(found)] + found, heard[0])
+            self.assertEqual(said(model.text()), heard[1])
+            self.assertEqual([0, len(model.reaches), len(found), told_settings, sum(model.let_in)], heard[2])
+
+
+class Asks(unittest.TestCase):
+    def ask(self, rng, text, greatest):
+        """A model, asks, and what wants and set answer."""
+        model = Model()
+        model.net(text)
+        asks = [rng.choice([0, rng.randint(0, greatest)]) for _ in model.ends()]
+        heard = run(net(text), wants(asks), set_gates(asks))
+        return model, asks, heard[1], heard[2]
+
+    def test_against_the_plan(self):
+        rng = random.Random(41)
+        seen = {"can": 0, "one": 0, "several": 0}
+        for _ in range(600):
+            text = make_text(rng, rng.choice([1, 3, 8, 30])).replace("loss 99", "loss 5").replace("cap 1 ", "cap 40 ")
+            model, asks, wanted, parts = self.ask(rng, text, rng.choice([1, 20, 400]))
+            offers, cannot = model.plan(asks)
+            if cannot:
+                seen["one" if len(cannot) == 1 else "several"] += 1
+                self.assertEqual([0, 0, cannot[0]], wanted)
+                self.assertEqual([-8], parts)
+                continue
+            seen["can"] += 1
+            whole = sum([offers[i] for i in model.below("source")])
+            self.assertEqual([0, 1] + told([whole])[1:], wanted)
+            self.assertEqual(told(model.shares(offers)), parts)
+        self.assertTrue(min(seen.values()) > 50, seen)
+
+    def test_let_in_with_these_gates_just_what_was_asked_arrives(self):
+        rng = random.Random(43)
+        tried = 0
+        while tried < 40:
+            text = make_text(rng, rng.choice([2, 8, 30])).replace("cap 1 ", "cap 90000 ").replace("cap 50 ", "cap 9000 ")
+            model, asks, wanted, parts = self.ask(rng, text, 30)
+            if wanted[1] == 0 or sum(asks) == 0:
+                continue
+            tried += 1
+            shares = [Fraction(parts[1 + 2 * i], parts[2 + 2 * i]) for i in range(len(model.reaches))]
+            let_in = model.alone(5, Fraction(wanted[2], wanted[3]))
+            leaving, totals = model.simulate(let_in, lambda i, tick: shares[i])[2:]
+            self.assertEqual(asks, [sum([row[i] for row in leaving]) for i in model.ends()])
+            self.assertEqual([sum(asks), 0, 0], [totals[0], totals[2], totals[3]])
+
+
+class AnyOrder(unittest.TestCase):
+    """Lists of up to 120 calls of all kinds, right and wrong, in any order."""
+
+    def number(self, rng, greatest):
+        return rng.choice([-1, greatest + 1] + [rng.randint(0, greatest) for _ in range(12)])
+
+    def make_call(self, rng, model):
+        """A call's number and what it is asked with."""
+        many = len(model.reaches) if model.reaches else 2
+        ended = len(model.ends()) if model.reaches else 2
+        call = rng.choice([0] + list(range(1, 18)) * 3)
+        i, t = self.number(rng, many - 1), self.number(rng, 59)
+        if call == 0:
+            return [0, spoil(rng, make_text(rng, rng.choice([1, 4, 12, 30])))]
+        if call == 1:
+            size = rng.choice([0, 1, 3, 20, 60])
+            return [1, t, [self.number(rng, 1000000) if rng.random() < 0.02 else rng.randint(0, 3000) for _ in range(size)]]
+        if call in (10, 11):
+            size = rng.choice([ended] * 6 + [ended - 1, min(ended + 1, 30), 0])
+            return [call, [rng.choice([0, 1, 40, self.number(rng, 60)]) for _ in range(size)]]
+        others = {
+            2: [i, t, self.number(rng, 100)], 3: [i, t], 4: [i, t, self.number(rng, 60)], 5: [t], 7: [i],
+            8: [i, t, self.number(rng, 200)], 9: [i, t], 12: [i, t], 14: [i, self.number(rng, 100000)],
+        }
+        return [call] + others.get(call, [])
+
+    def write(self, call):
+        if call[0] == 0:
+            return net(call[1])
+        if isinstance(call[-1], list):
+            return call[:-1] + [len(call[-1])] + call[-1]
+        return call
+
+    def test_against_the_model(self):
+        rng = random.Random(47)
+        seen = {}
+        for size in [1] * 30 + [7] * 10 + [120] * 8:
+            model = Model()
+            calls = []
+            expected = []
+            dear = 0
+            while len(calls) < size:
+                call = self.make_call(rng, model)
+                if len(calls) == 3 and size > 7:
+                    call = [0, make_text(rng, 12)]
+                dear += call[0] in (4, 6, 13, 14)
+                if dear > 16 and call[0] in (4, 6, 13, 14):
+                    continue
+                calls.append(self.write(call))
+                expected.append(model.answer(call))
+                first = expected[-1][0]
+                seen[(call[0], first)] = seen.get((call[0], first), 0) + 1
+            self.assertEqual(expected, run(*calls))
+        for call in range(1, 18):
+            self.assertIn((call, 0), seen)
+            self.assertIn((call, -9), seen)
+        for call in (1, 2, 3, 4, 5, 7, 8, 9, 10, 11, 12, 14):
+            self.assertIn((call, -1), seen)
+        for pair in ((0, 0), (0, 1), (2, -7), (11, -8)):
+            self.assertIn(pair, seen)
